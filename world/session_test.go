@@ -7,6 +7,7 @@ import (
 	"testing"
 
 	"stopcock/api"
+	"stopcock/judge"
 	"stopcock/stream"
 )
 
@@ -21,13 +22,18 @@ type clients struct {
 	w       *World
 	readers map[life]*stream.Reader
 	sent    map[life][]api.Frame // a bad end is a frame of no Kind
-	replies map[life]int
+	asked   map[string]life      // by the text of a Query
+	served  map[life][]string    // what the backend answered
+	replies map[life][]api.Reply
 	read    int // how many of Told have been looked at
 	results int
 }
 
 func newClients(t *testing.T, w *World) *clients {
-	return &clients{t: t, w: w, readers: map[life]*stream.Reader{}, sent: map[life][]api.Frame{}, replies: map[life]int{}}
+	return &clients{
+		t: t, w: w, readers: map[life]*stream.Reader{}, sent: map[life][]api.Frame{},
+		asked: map[string]life{}, served: map[life][]string{}, replies: map[life][]api.Reply{},
+	}
 }
 
 // send lets a client send frames, each Query with a text that no other has.
@@ -46,6 +52,7 @@ func (c *clients) send(r *rand.Rand, n, sess int) {
 		f := api.Frame{Kind: []byte{api.Begin, api.Query, api.Query, api.End}[r.Intn(4)]}
 		if f.Kind == api.Query {
 			f.Text = fmt.Sprint(now, len(c.sent[now])+len(l))
+			c.asked[f.Text] = now
 		}
 		l = append(l, f)
 	}
@@ -65,7 +72,10 @@ func (c *clients) send(r *rand.Rand, n, sess int) {
 // serve lets the backend answer each of a node's queries with its own text.
 func (c *clients) serve(n int) {
 	for _, token := range c.w.Queries(n) {
-		c.w.Do(serve(n, token, "to "+c.w.Query(n, token)))
+		query := c.w.Query(n, token)
+		if c.w.Do(serve(n, token, "to "+query)) == api.OK {
+			c.served[c.asked[query]] = append(c.served[c.asked[query]], "to "+query)
+		}
 	}
 }
 
@@ -79,8 +89,8 @@ func (c *clients) look() {
 	all := c.w.Told()
 	for _, x := range all[c.read:] {
 		key := life{x.Node, x.Sess, x.Life}
-		i := c.replies[key]
-		c.replies[key]++
+		i := len(c.replies[key])
+		c.replies[key] = append(c.replies[key], x.Reply)
 		if i >= len(c.sent[key]) {
 			c.t.Fatalf("%v is told %v, and had sent only %d frames", key, x.Reply, len(c.sent[key]))
 		}
@@ -93,6 +103,18 @@ func (c *clients) look() {
 		}
 	}
 	c.read = len(all)
+}
+
+// judge lets each session be judged; a bad end, which comes last, is no frame to the judge.
+func (c *clients) judge() {
+	for key, told := range c.replies {
+		if told[len(told)-1].Kind == api.Broken {
+			told = told[:len(told)-1]
+		}
+		if at, e := judge.Fits(c.sent[key], c.served[key], told); e != api.OK {
+			c.t.Fatalf("%v sent %v, served was %q, and it was told %v: %d, %d", key, c.sent[key], c.served[key], told, at, e)
+		}
+	}
 }
 
 // P0.4
@@ -125,6 +147,7 @@ func TestReplies(t *testing.T) {
 			}
 			c.look()
 		}
+		c.judge()
 		results += c.results
 		replies += c.read
 	}

@@ -8,6 +8,7 @@ import (
 
 	"stopcock/api"
 	"stopcock/drift"
+	"stopcock/judge"
 	"stopcock/ledger"
 	"stopcock/nodes"
 )
@@ -221,6 +222,9 @@ func TestWhatever(t *testing.T) {
 		for range 1500 {
 			w.Do(act(r, w))
 			x.look()
+		}
+		if open, e := judge.Replay(w.setup.Limit, w.Seen()); e != api.OK || !slices.Equal(open, w.Open()) {
+			t.Fatalf("to the judge, open are %v, %d; and to the world %v", open, e, w.Open())
 		}
 		opened += len(w.Seen())
 		replies += len(w.Told())
