@@ -254,3 +254,19 @@ func TestSurvival(t *testing.T) {
 		}
 	}
 }
+
+// A disk that was not made has no power.
+func TestNone(t *testing.T) {
+	for _, d := range []*Disk{nil, {}} {
+		d.Arm(1)
+		d.Crash([]int{1})
+		if d.On() || d.Names() != nil || d.Loose("a") != 0 || d.Append("a", nil) != api.ErrDown || d.Sync("a") != api.ErrDown || d.Remove("a") != api.ErrDown || d.Clone().On() {
+			t.Error("a disk that was not made has power")
+		}
+		d.Power()
+	}
+	d := &Disk{}
+	d.Power()
+	errno(t, "Append", d.Append("a", []byte("x")), api.OK)
+	content(t, d, "a", "x", api.OK)
+}

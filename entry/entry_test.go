@@ -12,7 +12,7 @@ func grant(node int) api.Entry {
 }
 
 func TestFits(t *testing.T) {
-	if !Fits(grant(1)) || Fits(grant(8)) || Fits(api.Entry{Cmd: grant(1).Cmd}) || Fits(api.Entry{}) {
+	if !Fits(grant(1)) || !Fits(api.Entry{Term: 1, Cmd: grant(1).Cmd}) || Fits(grant(8)) || Fits(api.Entry{Cmd: grant(1).Cmd}) || Fits(api.Entry{}) {
 		t.Error("Fits is wrong")
 	}
 }

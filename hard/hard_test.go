@@ -205,6 +205,7 @@ func TestBase(t *testing.T) {
 // good returns encodings, with the records that they are.
 func good() map[string]api.Rec {
 	return map[string]api.Rec{
+		"\x01\x01\x01": began(1), "\x02\x01\x01\x00": voted(1, 0), "\x03\x01\x01\x01\x01\x01\x01": added(1, noop(1)), "\x04\x01\x01": cut(1),
 		"\x01\x01\x03": began(3), "\x02\x01\x05\x01\x07": voted(5, 7), "\x02\x02\x01\x00\x00": voted(256, 0),
 		"\x03\x01\x09\x01\x05\x01\x01":                         added(9, noop(5)),
 		"\x03\x01\x09\x01\x05\x01\x02\x01\x02\x01\x01\x01\x02": added(9, conf(5)),

@@ -40,6 +40,7 @@ func TestJudge(t *testing.T) {
 		{2, trail(opened(1, 1), opened(1, 1)), 1, api.ErrState}, {2, trail(closed(1, 1)), 0, api.ErrNone}, {2, trail(opened(1, 1), closed(2, 1)), 1, api.ErrNone},
 		{2, trail(opened(1, 1), closed(1, 2)), 1, api.ErrNone}, {2, trail(opened(1, 1), closed(1, 1), closed(1, 1)), 2, api.ErrNone}, {2, trail(opened(1, 1), fell(1), closed(1, 1)), 2, api.ErrNone},
 		{2, trail(opened(1, 1), fell(2), opened(2, 1)), 2, api.ErrTrace}, {2, trail(fell(7), fell(7)), -1, api.OK}, {2, trail(opened(1, 1), opened(1, 2), fell(1), opened(7, 2), opened(6, 1)), -1, api.OK},
+		{1, trail(opened(1, 1), fell(2)), -1, api.OK},
 		// What is no observation.
 		{2, trail(opened(1, 3)), 0, api.ErrArg}, {2, trail(opened(1, 0)), 0, api.ErrArg}, {2, trail(opened(0, 1)), 0, api.ErrArg}, {2, trail(opened(8, 1)), 0, api.ErrArg},
 		{2, trail(closed(1, 3)), 0, api.ErrArg}, {2, trail(fell(1), fell(8)), 1, api.ErrArg}, {2, trail(api.Seen{Kind: api.Fell, Node: 1, Token: 1}), 0, api.ErrArg}, {2, trail(api.Seen{Node: 1, Token: 1}), 0, api.ErrArg},

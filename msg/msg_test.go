@@ -101,6 +101,8 @@ func TestCheckValues(t *testing.T) {
 	put := api.Msg{Kind: api.Put, From: 1, To: 2}
 	stamp := portrait()
 	stamp.Index, stamp.Term = 0, 0
+	first := portrait()
+	first.Index, first.Term = 1, 1
 	wide := feed
 	wide.Index = 1 << 62
 	wider := feed
@@ -113,6 +115,8 @@ func TestCheckValues(t *testing.T) {
 		{with(feed, noop(2)), false}, {with(feed, noop(6)), false}, {with(feed, noop(4), noop(3)), false}, {with(feed, api.Entry{Term: 4}), false},
 		{with(feed, api.Entry{Cmd: api.Cmd{Kind: api.Noop}}), false}, {with(api.Msg{Kind: api.Feed, From: 1, To: 2, Term: 5}, noop(0)), false},
 		{wide, true}, {wider, false},
+		{api.Msg{Kind: api.Ask, From: 1, To: 2, Term: 1, Index: 1, LogTerm: 1}, true}, {with(api.Msg{Kind: api.Feed, From: 1, To: 2, Term: 1}, noop(1)), true},
+		{api.Msg{Kind: api.Vote, From: 1, To: 2, Term: 1}, true}, {api.Msg{Kind: api.Fed, From: 1, To: 2, Term: 1}, true}, {api.Msg{Kind: api.Ship, From: 1, To: 2, Term: 1, Shot: first}, true},
 		{api.Msg{Kind: api.Ask, From: 1, To: 2, Index: 1, LogTerm: 1}, false}, {api.Msg{Kind: api.Ask, From: 1, To: 2, Term: 1, Index: 1}, false},
 		{api.Msg{Kind: api.Ask, From: 1, To: 2, Term: 1, LogTerm: 1}, false}, {api.Msg{Kind: api.Ask, From: 1, To: 2, Term: 1, Index: 1, LogTerm: 2}, false},
 		{api.Msg{Kind: api.Feed, From: 1, To: 2, Term: 1, Index: 1}, false}, {api.Msg{Kind: api.Feed, From: 1, To: 2, Term: 1, Index: 1, LogTerm: 2}, false},

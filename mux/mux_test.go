@@ -327,6 +327,31 @@ func TestClone(t *testing.T) {
 	next(t, c, Want, "")
 }
 
+// R5: what is queued and what was told is each one's own, also where there is room behind it.
+func TestCloneQueue(t *testing.T) {
+	s := in(t, waiting)
+	fed(t, s, "EEE", api.OK)
+	s.queue = slices.Grow(s.queue, 9)
+	s.replies = slices.Grow([]api.Reply{result("1")}, 9)
+	c := s.Clone()
+	fed(t, s, "E", api.OK)
+	fed(t, c, "B", api.OK)
+	s.replies = append(s.replies, result("2"))
+	c.replies = append(c.replies, result("3"))
+	if s.queue[3].Kind != api.End || c.queue[3].Kind != api.Begin {
+		t.Errorf("the queues are %v and %v", s.queue, c.queue)
+	}
+	told(t, s, result("1"), result("2"))
+	told(t, c, result("1"), result("3"))
+}
+
+// The numbers of the actions.
+func TestActions(t *testing.T) {
+	if Nothing != 0 || Want != 1 || Pass != 2 || Give != 3 {
+		t.Error("the actions have other numbers")
+	}
+}
+
 // A session that was not made is closed.
 func TestNone(t *testing.T) {
 	for _, s := range []*Sess{nil, {}} {

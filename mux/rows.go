@@ -60,7 +60,6 @@ func (boundRow) begin(s *Sess) (int, string) {
 
 func (boundRow) query(s *Sess, text string) (int, string) {
 	s.state = sent
-	s.within = true
 	return Pass, text
 }
 

@@ -124,3 +124,11 @@ func TestList(t *testing.T) {
 		}
 	}
 }
+
+// A network that was not made takes no letters.
+func TestNone(t *testing.T) {
+	var n *Net
+	if _, e := n.Take(0); e != api.ErrNone || n.Send(letter("a")) != api.ErrArg || n.Double(0) != api.ErrNone || n.Len() != 0 || n.All() != nil || n.Clone() != nil {
+		t.Error("a network that was not made takes letters")
+	}
+}

@@ -454,6 +454,7 @@ func TestLogged(t *testing.T) {
 func TestSnapshot(t *testing.T) {
 	c := newCluster(t, setup(3, 3))
 	c.lead(1)
+	c.client(1, 1, "B") // the first request of another node
 	n := c.nodes[3]
 	out, _ := n.Client(1, "B")
 	c.nodes[3] = nil
@@ -468,11 +469,22 @@ func TestSnapshot(t *testing.T) {
 	if n.Hard().Shot.Index == 0 || n.Commit() != c.nodes[1].Commit() {
 		t.Fatal("node 3 got no snapshot")
 	}
-	conns(t, n, pool.Conn{Token: 1, Sess: 1})
+	conns(t, n, pool.Conn{Token: 2, Sess: 1})
 	told(t, n, 1, reply(api.Ready))
 	if !reflect.DeepEqual(n.Ledger(), c.nodes[1].Ledger()) {
 		t.Errorf("the ledgers are %v and %v", n.Ledger(), c.nodes[1].Ledger())
 	}
+	// A snapshot that knows only an earlier request leaves the pending one pending.
+	n.Client(2, "B")
+	c.nodes[3] = nil
+	c.client(1, 2, "B")
+	c.did(c.nodes[1].Squash())
+	c.nodes[3] = n
+	c.beat(1)
+	if asked, pending := n.wallet.Asked(); !pending || asked.Seq != 2 || n.Commit() != c.nodes[1].Commit() {
+		t.Errorf("pending is %v, %t", asked, pending)
+	}
+	conns(t, n, pool.Conn{Token: 2, Sess: 1})
 }
 
 // A token that is granted too late isn't trusted; the node asks again.
@@ -516,6 +528,100 @@ func TestNewLeader(t *testing.T) {
 	c.clock(195)
 	if len(c.nodes[2].Ledger().Held) != 0 {
 		t.Error("a token is not reclaimed")
+	}
+}
+
+// P20.2: also one that led before, and knew the rows then.
+func TestLeadsAgain(t *testing.T) {
+	c := newCluster(t, setup(3, 3))
+	c.lead(1)
+	c.client(3, 1, "B")
+	c.nodes[3] = nil
+	c.clock(90)
+	c.did(c.nodes[2].Stand())
+	c.beat(2)
+	c.did(c.nodes[1].Stand())
+	c.beat(1)
+	if c.nodes[1].Leader() != 1 || c.nodes[2].Leader() != 1 {
+		t.Fatal("node 1 does not lead again")
+	}
+	c.clock(189)
+	if len(c.nodes[1].Ledger().Held) != 1 {
+		t.Error("a token is reclaimed too early")
+	}
+	c.clock(190)
+	if len(c.nodes[1].Ledger().Held) != 0 {
+		t.Error("a token is not reclaimed")
+	}
+}
+
+// P20.1: the wallet's time begins with that of the node.
+func TestStartTime(t *testing.T) {
+	c := newCluster(t, setup(1, 3))
+	n := c.start(1, 50)
+	c.lead(1)
+	c.did(n.Client(1, "Q\x01x"))
+	if l := n.wallet.All(); len(l) != 1 || l[0].Until != 150 {
+		t.Errorf("the trusts are %v", l)
+	}
+	// One call goes all the way from the frame to the query.
+	if !slices.Equal(n.Queries(), []int{1}) {
+		t.Errorf("the queries are %v", n.Queries())
+	}
+}
+
+// Serving: who wants a connection while one is idle gets it at once.
+func TestIdle(t *testing.T) {
+	c, n := one(t, 3)
+	c.did(n.Client(1, "BE"))
+	c.did(n.Client(2, "B"))
+	conns(t, n, pool.Conn{Token: 1, Sess: 2})
+	told(t, n, 2, reply(api.Ready))
+}
+
+// Requesting: what is to be released isn't trusted any more, even before it is.
+func TestReleasing(t *testing.T) {
+	c := newCluster(t, setup(2, 3))
+	c.lead(1)
+	c.client(2, 1, "BE")
+	out, _ := c.nodes[2].Clock(50)
+	if len(out) != 1 || out[0].Entries[0].Cmd.Kind != api.Release || len(c.nodes[2].Conns()) != 0 || len(c.nodes[2].wallet.All()) != 0 {
+		t.Errorf("sent is %v, and the trusts are %v", out, c.nodes[2].wallet.All())
+	}
+}
+
+// Receiving an Answer: what isn't the outcome that counts does nothing, and a token without a connection isn't kept.
+func TestReceive(t *testing.T) {
+	_, n := one(t, 3)
+	grant := api.Cmd{Kind: api.Grant, Node: 1, Boot: 1, Seq: 9}
+	n.wallet.Ask(grant)
+	n.receive(api.Answer{Code: api.Stale})
+	if n.refused {
+		t.Error("a stale request counts as refused")
+	}
+	for token := 101; token <= 100+api.MaxConns; token++ {
+		n.pool.Open(token)
+	}
+	n.wallet.Ask(grant)
+	n.receive(api.Answer{Code: api.Granted, Token: 5, Serial: 1})
+	if len(n.wallet.All()) != 0 || len(n.Conns()) != api.MaxConns {
+		t.Errorf("the trusts are %v", n.wallet.All())
+	}
+}
+
+// Receiving an Answer: who is refused sends its sessions to the node with the most tokens, the lowest of several.
+func TestRichest(t *testing.T) {
+	for i, x := range []struct{ self, want int }{{4, 1}, {1, 7}} {
+		n := &Node{self: x.self}
+		for token, k := range []int{7, 1, x.self, 7, 1, 3, x.self, x.self} {
+			n.ledger.Held = append(n.ledger.Held, api.Held{Token: token, Node: k})
+		}
+		if got := n.richest(); got != x.want {
+			t.Errorf("case %d: the richest node is %d", i, got)
+		}
+	}
+	if n := (&Node{self: 2, ledger: api.Ledger{Held: []api.Held{{Node: 2}}}}); n.richest() != 0 {
+		t.Error("a node is richer than others that have nothing")
 	}
 }
 

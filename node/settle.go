@@ -18,16 +18,15 @@ func (n *Node) apply() {
 			n.execute(h.Log[n.applied-h.Shot.Index].Cmd)
 		}
 	}
-	if !n.leads() {
-		n.led = 0
-		return
-	}
-	if n.led == h.Term {
+	// Who stops leading in a Term never leads in it again: so the last one tells whether it led before.
+	switch {
+	case !n.leads():
+	case n.led == h.Term:
 		n.keeper.Sees(n.time, n.ledger)
-	} else {
+	default:
 		n.keeper.Leads(n.time, n.ledger)
+		n.led = h.Term
 	}
-	n.led = h.Term
 }
 
 // adopt takes the ledger of a snapshot; the outcome of the pending request may be in it.

@@ -243,6 +243,13 @@ func TestElection(t *testing.T) {
 	}
 	d, e = m.Stand()
 	refused(t, "Stand of a leader", d, e, api.ErrState)
+	// The last node's vote counts like any other.
+	m = mustNew(t, 1, api.Hard{Shot: picture(0, 0, 1, 6, 7)})
+	m.Stand()
+	take(t, m, api.Msg{Kind: api.Vote, From: 7, Term: 1, Flag: true})
+	if m.Leader() != 1 {
+		t.Error("the vote of node 7 does not count")
+	}
 	// Votes of an earlier candidacy do not count for the next one.
 	m = mustNew(t, 1, api.Hard{Shot: picture(0, 0, 1, 2, 3, 4, 5)})
 	m.Stand()
@@ -263,6 +270,9 @@ func TestStand(t *testing.T) {
 	is(t, "Stand", m, d, e, recs(voted(1, 4), added(1, noop(1))))
 	if m.Leader() != 4 || m.Commit() != 1 {
 		t.Errorf("the leader is %d, and Commit %d", m.Leader(), m.Commit())
+	}
+	if _, e = m.Propose(grantCmd(1, 1)); e != api.OK || m.Commit() != 2 {
+		t.Errorf("Propose of a node alone is %d, and Commit %d", e, m.Commit())
 	}
 	d, e = m.Beat()
 	is(t, "Beat", m, d, e, nil)
@@ -309,10 +319,14 @@ func TestFeed(t *testing.T) {
 			t.Errorf("case %d: Commit is %d, and the leader %d", i, m.Commit(), m.Leader())
 		}
 	}
+	// An index before the first one there is none.
+	own := mustNew(t, 1, api.Hard{Term: 5, Shot: picture(0, 0, 1, 2, 3), Log: []api.Entry{noop(3), noop(3)}})
+	d, e := take(t, own, feed(1, 4, 0))
+	is(t, "Feed", own, d, e, nil, api.Msg{Kind: api.Fed, To: 2})
 	// What is committed stays, and nobody answers.
 	m := mustNew(t, 1, api.Hard{Term: 5, Shot: picture(4, 2, 1, 2, 3), Log: []api.Entry{noop(3), noop(3)}})
 	take(t, m, feed(6, 3, 6))
-	d, e := take(t, m, feed(5, 3, 0, noop(5)))
+	d, e = take(t, m, feed(5, 3, 0, noop(5)))
 	is(t, "a Feed that breaks", m, d, e, nil)
 	// Who stands follows then, and who leads does not.
 	m = three(t, 1)
@@ -414,6 +428,14 @@ func TestShip(t *testing.T) {
 		if m.Commit() != x.commit || m.Leader() != 3 || len(m.Hard().Log) != x.log {
 			t.Errorf("case %d: Commit is %d, the leader %d, and there are %d entries", i, m.Commit(), m.Leader(), len(m.Hard().Log))
 		}
+	}
+	// Who stands follows then.
+	m = three(t, 1)
+	m.Stand()
+	take(t, m, api.Msg{Kind: api.Ship, From: 3, Term: 1, Shot: picture(1, 1, 1, 2, 3)})
+	take(t, m, api.Msg{Kind: api.Vote, From: 2, Term: 1, Flag: true})
+	if m.Leader() != 3 {
+		t.Errorf("the leader is %d", m.Leader())
 	}
 	m = lead(t)
 	d, e = take(t, m, api.Msg{Kind: api.Ship, From: 3, Term: 1, Shot: picture(9, 1, 1)})

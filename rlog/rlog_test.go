@@ -154,6 +154,13 @@ func TestMerge(t *testing.T) {
 	}
 }
 
+// The numbers of the results.
+func TestResults(t *testing.T) {
+	if Fits != 1 || Lacks != 2 || Breaks != 3 {
+		t.Error("the results have other numbers")
+	}
+}
+
 // P15.5
 func TestMerged(t *testing.T) {
 	r := rand.New(rand.NewSource(1))

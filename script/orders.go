@@ -1,6 +1,7 @@
 package script
 
 import (
+	"slices"
 	"strings"
 
 	"stopcock/api"
@@ -76,12 +77,7 @@ func kindOf(name string) int {
 		api.Pass: "pass", api.Deliver: "deliver", api.Drop: "drop", api.Double: "double", api.Stand: "stand", api.Beat: "beat", api.Crash: "crash", api.Start: "start",
 		api.Arm: "arm", api.Change: "change", api.Squash: "squash", api.Send: "send", api.Hang: "hang", api.Serve: "serve", api.Round: "round",
 	}
-	for kind, x := range names {
-		if x == name && kind > 0 {
-			return kind
-		}
-	}
-	return 0
+	return max(slices.Index(names, name), 0)
 }
 
 // readAct reads the rest of a line that does something.

@@ -93,6 +93,23 @@ func TestLong(t *testing.T) {
 	}
 }
 
+// P23.1, P23.2: the longest line, and one that is longer.
+func TestLongest(t *testing.T) {
+	line := "send 1 1" + strings.Repeat(" end", 62)
+	longer := "send 1 1 query: begin" + strings.Repeat(" end", 59)
+	if len(line) != 256 || len(longer) != 257 {
+		t.Fatalf("the lines have %d and %d bytes", len(line), len(longer))
+	}
+	if s, e := New().Line(line); s != "error 3" || e != api.OK {
+		t.Errorf("Line is %q, %d", s, e)
+	}
+	if s, e := New().Line(longer); s != "" || e != api.ErrLong {
+		t.Errorf("Line is %q, %d", s, e)
+	}
+	run(t, line, "error 3\n", api.OK, 0)
+	run(t, longer, "", api.ErrScript, 1)
+}
+
 // P23.1: each line does what it says.
 func TestEffects(t *testing.T) {
 	d := New()

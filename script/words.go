@@ -23,11 +23,10 @@ type words struct {
 // more tells whether there are words left.
 func (w *words) more() bool { return !w.bad && len(w.rest) > 0 }
 
-// next reads a word.
+// next reads a word, if there is one.
 func (w *words) next() string {
 	if !w.more() {
-		w.bad = true
-		return ""
+		return "" // which no word may be
 	}
 	x := w.rest[0]
 	w.rest = w.rest[1:]

@@ -125,3 +125,11 @@ func TestPieces(t *testing.T) {
 		}
 	}
 }
+
+// A reader that was not made reads nothing.
+func TestNone(t *testing.T) {
+	var r *Reader
+	if r.Feed([]byte("B")) != nil || r.Broken() || r.Left() != 0 || r.Clone() != nil {
+		t.Error("a reader that was not made reads something")
+	}
+}

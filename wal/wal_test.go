@@ -215,6 +215,29 @@ func TestSegments(t *testing.T) {
 	mustHave(t, d, all[:200]...)
 }
 
+// Of two generations that are whole, the later one is the log.
+func TestTwoGenerations(t *testing.T) {
+	d := disk.New()
+	l := mustMake(t, d, "old")
+	for range 40 {
+		old := d.Clone()
+		l.Append("older")
+		l.Roll([]string{"new"})
+		both := d.Clone()
+		for _, name := range old.Names() {
+			b, _ := old.Read(name)
+			both.Append(name, b)
+		}
+		if len(both.Names()) != 2 {
+			t.Fatalf("the files are %v", both.Names())
+		}
+		mustHave(t, both, "new")
+		if len(both.Names()) != 1 {
+			t.Errorf("the files are %v", both.Names())
+		}
+	}
+}
+
 // A log that was never made does nothing.
 func TestNoLog(t *testing.T) {
 	for _, l := range []*Log{nil, {}} {

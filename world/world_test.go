@@ -190,7 +190,9 @@ func TestPass(t *testing.T) {
 	if w.Clock(2) != 27 {
 		t.Errorf("the clock shows %d", w.Clock(2))
 	}
-	w.places[2].clock = 1<<60 - 5
+	w.places[1].clock, w.places[2].clock = 1<<60-5, 0
+	do(t, w, pass(w, 6), api.ErrFull)
+	w.places[1].clock, w.places[2].clock = 23, 1<<60-5
 	do(t, w, pass(w, 6), api.ErrFull)
 	do(t, w, pass(w, 5), api.OK)
 	if w.Clock(1) != 28 || w.Clock(2) != 1<<60 {
