@@ -10,6 +10,9 @@ import (
 
 // apply brings the ledger to where Commit is, and shows it to the keeper if the node leads.
 func (n *Node) apply() {
+	if n.machine.Commit() == n.applied && !n.leads() {
+		return
+	}
 	h := n.machine.Hard()
 	for n.machine.Commit() > n.applied {
 		if n.applied < h.Shot.Index {

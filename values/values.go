@@ -39,9 +39,9 @@ func CopyEntry(x api.Entry) api.Entry {
 
 // CopyEntries copies entries.
 func CopyEntries(l []api.Entry) []api.Entry {
-	var twins []api.Entry
-	for _, x := range l {
-		twins = append(twins, CopyEntry(x))
+	twins := slices.Clone(l)
+	for i, x := range twins {
+		twins[i] = CopyEntry(x)
 	}
 	return twins
 }
