@@ -146,6 +146,43 @@ func TestApply(t *testing.T) {
 	}
 }
 
+// P5.2: beside the Answer stands the new ledger, not the one that was.
+func TestNewLedger(t *testing.T) {
+	first := api.Held{Token: 1, Node: 1, Boot: 1, Serial: 1, Stamp: 5}
+	renewed := first
+	renewed.Stamp = 6
+	granted := api.Answer{Code: api.Granted, Token: 1, Serial: 1}
+	empty := api.Ledger{Limit: 2, Next: 1}
+	held := api.Ledger{Limit: 2, Next: 2, Held: []api.Held{first}, Last: []api.Last{{Node: 1, Boot: 1, Seq: 1, Answer: granted}}}
+	// after is held with these rows, and with the last request of node 1 being this one.
+	after := func(seq uint64, code int, rows ...api.Held) api.Ledger {
+		return api.Ledger{Limit: 2, Next: 2, Held: rows, Last: []api.Last{{Node: 1, Boot: 1, Seq: seq, Answer: api.Answer{Code: code}}}}
+	}
+	freed := held
+	freed.Held = nil
+	for _, x := range []struct {
+		l     api.Ledger
+		index uint64
+		c     api.Cmd
+		want  api.Ledger
+		a     api.Answer
+	}{
+		{empty, 5, grantOf(1, 1, 1), held, granted},
+		{held, 6, renewOf(1, 1, 2, 1, 1), after(2, api.Renewed, renewed), api.Answer{Code: api.Renewed}},
+		{held, 6, renewOf(1, 1, 2, 2, 1), after(2, api.Gone, first), api.Answer{Code: api.Gone}},
+		{held, 6, releaseOf(1, 1, 2, 1, 1), after(2, api.Freed), api.Answer{Code: api.Freed}},
+		{held, 6, releaseOf(1, 1, 2, 1, 2), after(2, api.Gone, first), api.Answer{Code: api.Gone}},
+		{held, 6, reclaimOf(1, 1, 5), freed, api.Answer{Code: api.Freed}},
+		{held, 6, reclaimOf(1, 1, 6), held, api.Answer{Code: api.Gone}},
+	} {
+		l, a, e := Apply(x.l, x.index, x.c)
+		same := l.Limit == x.want.Limit && l.Next == x.want.Next && slices.Equal(l.Held, x.want.Held) && slices.Equal(l.Last, x.want.Last)
+		if !same || a != x.a || e != api.OK {
+			t.Errorf("%v makes of the ledger %v, %v, %d, not %v, %v", x.c, l, a, e, x.want, x.a)
+		}
+	}
+}
+
 // P5.2: a command that the table leaves alone leaves the ledger alone.
 func TestUnchanged(t *testing.T) {
 	for _, c := range []api.Cmd{
